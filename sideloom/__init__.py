@@ -1,0 +1,1 @@
+"""Sideloom: tables of many sides, shapes told ahead, loops laid together."""
