@@ -66,3 +66,18 @@ def at_of(sides, place):
 def all_at(sides):
     """A new list of all coordinates, in the order of their places."""
     return [at_of(sides, place) for place in range(amount(sides))]
+
+
+def changed_at(row, k, number):
+    """The row (sides, coordinates or strides) with another number in the place k."""
+    return row[:k] + (number,) + row[k + 1:]
+
+
+def added_at(row, k, number):
+    """The row with one number more, which stands in the place k."""
+    return row[:k] + (number,) + row[k:]
+
+
+def dropped_at(row, k):
+    """The row without the number in the place k."""
+    return row[:k] + row[k + 1:]

@@ -87,7 +87,8 @@ class Language(unittest.TestCase):
         self.assertEqual(language.faults(package_sources()), [])
 
     def test_the_package_has_its_files(self):
-        for name in ("__init__.py", "errors.py", "figures.py", "sides.py"):
+        for name in ("__init__.py", "errors.py", "figures.py", "sides.py", "tables.py", "rules.py", "moves.py",
+                     "lifting.py"):
             self.assertIn(name, package_sources())
 
     def test_good_code_has_no_fault(self):

@@ -3,22 +3,14 @@
 import itertools
 import unittest
 
-from sideloom.errors import LoomError, NoPlace, TooLarge
+from common import GREAT, Refusing
+from sideloom.errors import NoPlace, TooLarge
 from sideloom.sides import all_at, allowed, amount, at_of, breadth, place_of, strides_of
 
-# So great that Python would not even write them as figures.
-GREAT = 10**5000
 SMALL = (
     (), (0,), (1,), (5,), (0, 0), (2, 3), (3, 2), (2, 0), (0, 2), (1, 1, 1), (2, 3, 4), (2, 0, 3), (4, 1, 3),
     (1, 2, 1, 3, 1, 2), (2, 2, 2, 2, 2, 2), (8, 8, 8), (512,), (1, 512), (2, 3, 0, 5, 0, 2),
 )
-
-
-class Refusing(unittest.TestCase):
-    def refused(self, kind, function, *args):
-        with self.assertRaises(LoomError) as taken:
-            function(*args)
-        self.assertIs(type(taken.exception), kind)
 
 
 class Counting(unittest.TestCase):
