@@ -45,6 +45,8 @@ EXPRESSIONS = (
     ast.Slice,
 )
 LOOPS = (ast.For, ast.While)
+KEYWORDS = {"sorted": ("key", "reverse"), "min": ("key", "default"), "max": ("key", "default"), "sum": ("start",),
+            "enumerate": ("start",), "zip": ("strict",)}
 WALKERS = ("zip", "enumerate", "reversed", "range")
 WALKED_BY = "list tuple dict sorted sum any all enumerate zip min max".split()
 
@@ -283,6 +285,69 @@ def walking_faults(file, node):
             yield "L24"
 
 
+def walked_names(node):
+    """The names of what a loop walks, itself or through enumerate, zip, reversed or a dict's own walks."""
+    if isinstance(node, ast.Name):
+        return [node.id]
+    if is_call_of(node, ("enumerate", "zip", "reversed")):
+        return [name for part in node.args for name in walked_names(part)]
+    if isinstance(node, ast.Call) and isinstance(node.func, ast.Attribute) and not node.args:
+        return walked_names(node.func.value)
+    return []
+
+
+def changed_name(node):
+    """The name of what a node changes by a call or by an index."""
+    if isinstance(node, ast.Call) and isinstance(node.func, ast.Attribute) and node.func.attr in CHANGING:
+        node = node.func
+    elif not (isinstance(node, ast.Subscript) and isinstance(node.ctx, ast.Store)):
+        return None
+    return node.value.id if isinstance(node.value, ast.Name) else None
+
+
+def loop_faults(file, node):
+    if isinstance(node, ast.For):
+        names = walked_names(node.iter)
+        if any(changed_name(inner) in names for part in node.body for inner in ast.walk(part)):
+            yield "L23"
+
+
+def form_faults(file, node):
+    if isinstance(node, ast.Lambda):
+        names = [arg.arg for arg in node.args.args]
+        for other in file.nodes:
+            if isinstance(other, ast.Lambda) and other is not node and other.lineno == node.lineno:
+                if [arg.arg for arg in other.args.args] == names:
+                    yield "L13"
+    if isinstance(node, ast.Set) and len(node.elts) > 2:
+        above = file.parent(node)
+        if not isinstance(above, ast.Compare) or not isinstance(above.ops[0], (ast.In, ast.NotIn)):
+            yield "L13"
+
+
+def keyword_faults(file, node):
+    if isinstance(node, ast.Call) and isinstance(node.func, ast.Name) and node.func.id in OWN_NAMES:
+        for keyword in node.keywords:
+            if keyword.arg not in KEYWORDS.get(node.func.id, ()):
+                yield "L22"
+    if isinstance(node, ast.Call) and isinstance(node.func, ast.Attribute) and node.func.attr in METHODS:
+        if node.keywords:
+            yield "L22"
+
+
+def class_use_faults(file, node, own_classes):
+    if not (isinstance(node, ast.Name) and isinstance(node.ctx, ast.Load) and node.id in own_classes):
+        return
+    above = file.parent(node)
+    if isinstance(above, ast.Tuple):
+        above = file.parent(above)
+    is_called = isinstance(above, ast.Call) and above.func is node
+    is_base_call = isinstance(above, ast.Attribute) and above.attr == "__init__"
+    if not (is_called or is_base_call or is_call_of(above, ("isinstance",))
+            or isinstance(above, (ast.ClassDef, ast.ExceptHandler))):
+        yield "L18"
+
+
 def is_plain(node, functions, depth=0):
     if isinstance(node, ast.UnaryOp) and isinstance(node.op, ast.USub):
         node = node.operand
@@ -365,6 +430,7 @@ def faults(sources):
     nodes = [node for file in files.values() for node in file.nodes]
     own_methods = [part.name for node in nodes if isinstance(node, ast.ClassDef)
                    for part in node.body if isinstance(part, ast.FunctionDef)]
+    own_classes = [node.name for node in nodes if isinstance(node, ast.ClassDef)]
     own_values = [node.attr for node in nodes if isinstance(node, ast.Attribute) and isinstance(node.ctx, ast.Store)]
     found = []
     for name, file in files.items():
@@ -373,6 +439,7 @@ def faults(sources):
         for node in file.nodes:
             for look in (statement_faults(file, node), expression_faults(file, node), def_faults(file, node),
                          name_faults(file, node), attribute_faults(file, node, own_methods, own_values),
-                         walking_faults(file, node)):
+                         walking_faults(file, node), loop_faults(file, node), form_faults(file, node),
+                         keyword_faults(file, node), class_use_faults(file, node, own_classes)):
                 found.extend([(rule, name, getattr(node, "lineno", 1)) for rule in look])
     return found

@@ -20,8 +20,14 @@ def place(word, otherwise=None):
     if word not in FEW:
         raise NoWord(f"no word: {word!r}")
     rows = [row * 2 ** 3 for row in range(FEW[word]) if row > 0]
+    others = list(rows)
     for number, row in enumerate(rows):
         otherwise = row % 3 + number
+        others[number] = sorted(rows, key=lambda x: -x, reverse=True)
+    try:
+        place(others, lambda x: x)
+    except NoWord as e:
+        raise NoWord("no word") from e
     return tuple(reversed(rows)) if otherwise is None else sorted(set(rows))
 '''
 
@@ -47,6 +53,8 @@ BAD = (
     ("L10", "def f(x):\n" + "    x = x + 1\n" * 40 + "    return x\n"),
     ("L10", "x = '" + "a" * 120 + "'\n"),
     ("L12", "def f(xs):\n    return [1 for _ in xs]\n"),
+    ("L13", "def f():\n    return (lambda x: x, lambda x: -x)\n"),
+    ("L13", "def f():\n    return len({1, 2, 3})\n"),
     ("L14", "x = '\u00e9'\n"),
     ("L15", "x = 1\nx = 2\n"),
     ("L15", "def f(hash):\n    return hash\n"),
@@ -55,12 +63,19 @@ BAD = (
     ("L16", "from sideloom.errors import NoSuchName\n"),
     ("L17", "# the type of it\n"),
     ("L17", "def open(x):\n    return x\n"),
+    ("L18", "from sideloom.errors import NoWord\n\n\ndef f():\n    return NoWord\n"),
+    ("L18", "from sideloom.errors import NoWord\n\n\ndef f():\n    return [NoWord]\n"),
     ("L19", "def f(x):\n    try:\n        x()\n    except Exception:\n        pass\n"),
     ("L19", "def f(x):\n    raise x\n"),
     ("L20", "def f(x, y):\n    return x is y\n"),
     ("L21", "def f(x: int):\n    return x\n"),
     ("L22", "def f(x):\n    y = len\n    return y(x)\n"),
+    ("L22", "def f(x):\n    return sum([x], begin=1)\n"),
+    ("L22", "def f(x):\n    return x.split(sep=',')\n"),
     ("L23", "def f(x):\n    y = range(x)\n    return y\n"),
+    ("L23", "def f(xs):\n    for x in xs:\n        xs.append(x)\n"),
+    ("L23", "def f(xs):\n    for k, x in enumerate(xs):\n        xs[k] = x\n"),
+    ("L23", "def f(xs):\n    for k, x in xs.items():\n        xs.pop(k)\n"),
     ("L24", "def f(x):\n    y = set(x)\n    return y\n"),
     ("L25", "def f(x):\n    x.sort()\n"),
     ("L26", "class A:\n    def __init__(self, items):\n        self.items = items\n"),
@@ -88,7 +103,7 @@ class Language(unittest.TestCase):
 
     def test_the_package_has_its_files(self):
         for name in ("__init__.py", "errors.py", "figures.py", "sides.py", "tables.py", "rules.py", "moves.py",
-                     "lifting.py"):
+                     "lifting.py", "folding.py", "views.py", "forms.py"):
             self.assertIn(name, package_sources())
 
     def test_good_code_has_no_fault(self):
