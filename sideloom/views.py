@@ -58,6 +58,17 @@ def inner_view(view, side):
     return (sides, view[1], added_at(dropped_at(strides, side), len(sides), strides[side]))
 
 
+def moved_view(step, view):
+    """The view turned, flipped, cut or spread as a step of a program tells."""
+    if step[0] == "turn":
+        return turned_view(view, step[2])
+    if step[0] == "flip":
+        return flipped_view(view, step[2])
+    if step[0] == "cut":
+        return cut_view(view, step[2], step[3], step[4], step[5])
+    return spread_view(view, step[2], step[3])
+
+
 def spot_of(view, at):
     """Where in the row the cell at these coordinates stands."""
     if len(at) != len(view[2]):

@@ -211,3 +211,87 @@ def model_tables(program, inputs):
         else:
             cells.append({at: model_number(step, sides, own, at, cells) for at in spots(own)})
     return tuple([(own, tuple(made.values())) for own, made in zip(sides, cells, strict=True)])
+
+
+def place_in(sides, at):
+    return spots(sides).index(at)
+
+
+def model_looks_all(program):
+    """For each step and each of its places the sorted pairs of a step and a place that it looks at."""
+    sides = model_told(program)[0]
+    told = []
+    for step, own in zip(program[0], sides, strict=True):
+        looks = [model_looks(step, sides, own, at) for at in spots(own)]
+        told.append([sorted({(k, place_in(sides[k], there)) for k, there in pairs}) for pairs in looks])
+    return told
+
+
+def model_looked(program, out, place):
+    """For each step the sorted places that are looked at from a place of an out."""
+    looks = model_looks_all(program)
+    seen = {(program[1][out], place)}
+    waiting = list(seen)
+    while waiting:
+        step, here = waiting.pop()
+        for pair in looks[step][here]:
+            if pair not in seen:
+                seen.add(pair)
+                waiting.append(pair)
+    return tuple([tuple(sorted([here for step, here in seen if step == k])) for k in range(len(program[0]))])
+
+
+def with_used(step, numbers):
+    """The step with others in the places of the steps that it uses."""
+    many = len(numbers)
+    first = 2 if step[0] in ("each", "pair", "fold", "run") else 1
+    return step[:first] + tuple(numbers) + step[first + many:]
+
+
+def model_still(form, sides):
+    """The step that a still one leaves as it was, or None."""
+    kind = form[0]
+    if kind == "turn" and list(form[2]) == sorted(form[2]):
+        return form[1]
+    if kind == "flip" and sides[form[1]][form[2]] in (0, 1):
+        return form[1]
+    if kind == "cut" and sides[form[1]][form[2]] == form[4]:
+        return form[1]
+    if kind == "lay" and sides[form[1]] == form[2]:
+        return form[1]
+    if kind == "join" and not sides[form[1]][form[3]]:
+        return form[2]
+    if kind == "join" and not sides[form[2]][form[3]]:
+        return form[1]
+    return None
+
+
+def model_thinned(program):
+    """A thinned program, and the new numbers for the old steps."""
+    sides = model_told(program)[0]
+    stands = {}
+    forms = {}
+    firsts = {}
+    for k, step in enumerate(program[0]):
+        form = forms[k] = with_used(step, [stands[number] for number in used_by(step)])
+        still = model_still(form, sides)
+        if form[0] == "in":
+            stands[k] = k
+        elif still is not None:
+            stands[k] = still
+        elif form[0] == "flip" and forms[form[1]][::2] == form[::2]:
+            stands[k] = forms[form[1]][1]
+        else:
+            stands[k] = firsts.setdefault(form, k)
+    kept = {stands[out] for out in program[1]} | {k for k in forms if forms[k][0] == "in"}
+    waiting = list(kept)
+    while waiting:
+        for number in used_by(forms[waiting.pop()]):
+            if number not in kept:
+                kept.add(number)
+                waiting.append(number)
+    order = sorted(kept)
+    steps = [with_used(forms[k], [order.index(number) for number in used_by(forms[k])]) for k in order]
+    outs = [order.index(stands[out]) for out in program[1]]
+    new = [order.index(stands[k]) if stands[k] in kept else None for k in range(len(program[0]))]
+    return (tuple(steps), tuple(outs)), tuple(new)
