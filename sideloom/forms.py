@@ -50,3 +50,16 @@ def with_args(step, numbers):
     for place, number in zip(arg_places(step[0]), numbers):
         parts[place] = number
     return tuple(parts)
+
+
+def reached_from(steps, ends):
+    """The numbers, the least first, of the steps at the ends and of all that these use, near or far."""
+    reached = [False for step in steps]
+    for end in ends:
+        reached[end] = True
+    # Steps use earlier ones alone, so from the last one on each is settled when it comes.
+    for k in range(len(steps) - 1, -1, -1):
+        if reached[k]:
+            for number in args_of(steps[k]):
+                reached[number] = True
+    return [k for k in range(len(steps)) if reached[k]]

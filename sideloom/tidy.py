@@ -1,7 +1,7 @@
 """Programs thinned: steps that another one stands for are left out."""
 
 from sideloom.checking import checked
-from sideloom.forms import args_of, with_args
+from sideloom.forms import args_of, reached_from, with_args
 
 
 def still_for(step, sides):
@@ -47,18 +47,6 @@ def standing_for(step, forms, stands, sides):
     return k
 
 
-def kept_of(forms, ends):
-    """The numbers of the steps that are kept: the in steps, those of the ends, and what is used by kept ones."""
-    kept = [form[0] == "in" for form in forms]
-    for end in ends:
-        kept[end] = True
-    for k in range(len(forms) - 1, -1, -1):
-        if kept[k]:
-            for number in args_of(forms[k]):
-                kept[number] = True
-    return [k for k in range(len(forms)) if kept[k]]
-
-
 def thinned(program):
     """The pair of the thinned program and of the new number, or None, for each old step."""
     sides = checked(program)
@@ -69,7 +57,8 @@ def thinned(program):
         stands.append(standing_for(form, forms, stands, sides))
         forms.append(form)
     ends = [stands[out] for out in program[1]]
-    kept = kept_of(forms, ends)
+    ins = [k for k, step in enumerate(program[0]) if step[0] == "in"]
+    kept = reached_from(forms, ins + ends)
     new = dict([(number, k) for k, number in enumerate(kept)])
     steps = [with_args(forms[k], tuple([new[number] for number in args_of(forms[k])])) for k in kept]
     outs = tuple([new[end] for end in ends])

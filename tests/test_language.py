@@ -104,7 +104,7 @@ class Language(unittest.TestCase):
     def test_the_package_has_its_files(self):
         for name in ("__init__.py", "errors.py", "figures.py", "sides.py", "tables.py", "rules.py", "moves.py",
                      "lifting.py", "folding.py", "views.py", "forms.py", "writing.py", "reading.py", "checking.py",
-                     "plain.py", "needs.py", "tidy.py", "trees.py"):
+                     "plain.py", "needs.py", "tidy.py", "trees.py", "weave.py", "bench.py", "costs.py", "whole.py"):
             self.assertIn(name, package_sources())
 
     def test_good_code_has_no_fault(self):
